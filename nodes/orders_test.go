@@ -1,0 +1,153 @@
+package nodes_test
+
+// The tests of layers above in other orders than the first. They stand here because only tests of this package can give a store another order.
+
+import (
+	"slices"
+	"testing"
+
+	"spinney/api"
+	"spinney/logic"
+	"spinney/nodes"
+	"spinney/truth"
+)
+
+// orders are all orders of so many variables.
+func orders(vars int) [][]int {
+	if vars == 0 {
+		return [][]int{nil}
+	}
+	var l [][]int
+	for _, o := range orders(vars - 1) {
+		for at := range vars {
+			l = append(l, slices.Insert(slices.Clone(o), at, vars-1))
+		}
+	}
+	return l
+}
+
+// someOrders are all orders of up to four variables, and drawn ones of five to eight, with the first one the other way round.
+func someOrders() [][]int {
+	var l [][]int
+	for vars := 1; vars <= 4; vars++ {
+		l = append(l, orders(vars)...)
+	}
+	d := draw(11)
+	for vars := 5; vars <= api.MaxVars; vars++ {
+		o := orders(vars)[0]
+		slices.Sort(o)
+		slices.Reverse(o)
+		l = append(l, slices.Clone(o))
+		for range 4 {
+			for i := range o {
+				j := d.next(i + 1)
+				o[i], o[j] = o[j], o[i]
+			}
+			l = append(l, slices.Clone(o))
+		}
+	}
+	return l
+}
+
+// ordered makes a store of that order.
+func ordered(t *testing.T, order []int, room int) *nodes.Store {
+	t.Helper()
+	s, _ := store(t, len(order), room)
+	if err := s.SetOrder(order); err != api.OK || !slices.Equal(s.Order().All(), order) {
+		t.Fatalf("SetOrder(%v): %v", order, err)
+	}
+	return s
+}
+
+// drawn is a function of so many variables.
+func drawn(d *draw, vars int) api.Func {
+	var f api.Func
+	for x := range 1 << vars {
+		f[x/64] |= uint64(d.next(2)) << (x % 64)
+	}
+	return truth.Restrict(f, uint8(255<<vars), 0)
+}
+
+// lay makes the nodes of f, from that level on.
+func lay(t *testing.T, s *nodes.Store, f api.Func, level int) api.Handle {
+	t.Helper()
+	if level == s.Vars() {
+		return api.Handle(f[0] & 1)
+	}
+	v := s.Order().Var(level)
+	h, err := s.Mk(level, lay(t, s, truth.Fix(f, v, false), level+1), lay(t, s, truth.Fix(f, v, true), level+1))
+	if err != api.OK {
+		t.Fatalf("no room for %x: %v", f, err)
+	}
+	return h
+}
+
+// made fails unless the answer is the node of want, and s holds the nodes of those of l and of want, and no others; ErrFull, if there isn't room for them.
+func made(t *testing.T, s *nodes.Store, l []api.Func, want api.Func, h api.Handle, err api.Errno) {
+	t.Helper()
+	order := s.Order().All()
+	need := truth.Size(append([]api.Func{want}, l...), order)
+	switch {
+	case need > s.Room():
+		if h != 0 || err != api.ErrFull {
+			t.Fatalf("order %v: %d, %v without room", order, h, err)
+		}
+	case err != api.OK || function(s, h) != want:
+		t.Fatalf("order %v: %d, %v: %x, want %x", order, h, err, function(s, h), want)
+	case s.Len() != need:
+		t.Fatalf("order %v: %d nodes, want %d", order, s.Len(), need)
+	}
+}
+
+// P11.1, P11.2: a variable lies where the order tells; of no variable ErrVar.
+func TestVarInOrders(t *testing.T) {
+	for _, order := range someOrders() {
+		s := ordered(t, order, len(order))
+		var l []api.Func
+		for v := range order {
+			h, err := logic.Var(s, v)
+			made(t, s, l, truth.Var(v), h, err)
+			if s.Level(h) != slices.Index(order, v) || s.Low(h) != 0 || s.High(h) != 1 {
+				t.Fatalf("order %v: Var(%d) lies at %d", order, v, s.Level(h))
+			}
+			l = append(l, truth.Var(v))
+		}
+		for _, v := range []int{-1, len(order), api.MaxVars} {
+			if h, err := logic.Var(s, v); h != 0 || err != api.ErrVar {
+				t.Errorf("order %v: Var(%d): %d, %v", order, v, h, err)
+			}
+		}
+	}
+}
+
+// P11.1, P11.2, P11.3: in every order the answers mean the same, and the nodes that are made are the answer's in that order; in room for just these, in one less, and in much.
+func TestLogicInOrders(t *testing.T) {
+	for i, order := range someOrders() {
+		d := draw(i)
+		l := []api.Func{drawn(&d, len(order)), drawn(&d, len(order)), drawn(&d, len(order))}
+		for _, o := range []struct {
+			do   func(s *nodes.Store, a, b, c api.Handle) (api.Handle, api.Errno)
+			want api.Func
+		}{
+			{func(s *nodes.Store, a, _, _ api.Handle) (api.Handle, api.Errno) { return logic.Not(s, a) }, truth.Not(l[0])},
+			{func(s *nodes.Store, a, b, _ api.Handle) (api.Handle, api.Errno) { return logic.And(s, a, b) }, truth.And(l[0], l[1])},
+			{func(s *nodes.Store, a, b, _ api.Handle) (api.Handle, api.Errno) { return logic.Or(s, a, b) }, truth.Or(l[0], l[1])},
+			{func(s *nodes.Store, a, b, _ api.Handle) (api.Handle, api.Errno) { return logic.Xor(s, a, b) }, truth.Xor(l[0], l[1])},
+			{logic.Ite, truth.Ite(l[0], l[1], l[2])},
+		} {
+			have, need := truth.Size(l, order), truth.Size(append([]api.Func{o.want}, l...), order)
+			for _, room := range []int{need - 1, need, 3000} {
+				if room < max(have, 1) {
+					continue
+				}
+				s := ordered(t, order, room)
+				s.Cached(i%2 == 0)
+				a, b, c := lay(t, s, l[0], 0), lay(t, s, l[1], 0), lay(t, s, l[2], 0)
+				for range 2 {
+					h, err := o.do(s, a, b, c)
+					made(t, s, l, o.want, h, err)
+				}
+			}
+		}
+	}
+}
