@@ -9,6 +9,7 @@ import (
 	"spinney/api"
 	"spinney/logic"
 	"spinney/nodes"
+	"spinney/quant"
 	"spinney/truth"
 )
 
@@ -147,6 +148,117 @@ func TestLogicInOrders(t *testing.T) {
 					h, err := o.do(s, a, b, c)
 					made(t, s, l, o.want, h, err)
 				}
+			}
+		}
+	}
+}
+
+// quantCall is a call of layer 12, and what it means.
+type quantCall struct {
+	do    func(s *nodes.Store, a api.Handle, mask, vals uint8) (api.Handle, api.Errno)
+	means func(f api.Func, mask, vals uint8) api.Func
+}
+
+func quants() []quantCall {
+	return []quantCall{
+		{
+			func(s *nodes.Store, a api.Handle, mask, _ uint8) (api.Handle, api.Errno) {
+				return quant.Exists(s, a, mask)
+			},
+			func(f api.Func, mask, _ uint8) api.Func { return truth.Exists(f, mask) },
+		},
+		{
+			func(s *nodes.Store, a api.Handle, mask, _ uint8) (api.Handle, api.Errno) {
+				return quant.Forall(s, a, mask)
+			},
+			func(f api.Func, mask, _ uint8) api.Func { return truth.Forall(f, mask) },
+		},
+		{quant.Restrict, truth.Restrict},
+	}
+}
+
+// answers fails unless h is the node of want, or the call was refused in a store that is full, which a great one is not to be; the argument is the node of f still.
+func answers(t *testing.T, s *nodes.Store, a api.Handle, f, want api.Func, h api.Handle, err api.Errno) {
+	t.Helper()
+	order := s.Order().All()
+	switch {
+	case err == api.ErrFull && h == 0 && s.Len() == s.Room() && s.Room() < 3000:
+	case err != api.OK || function(s, h) != want:
+		t.Fatalf("order %v: %d, %v: %x, want %x, %d nodes in room for %d", order, h, err, function(s, h), want, s.Len(), s.Room())
+	}
+	if function(s, a) != f {
+		t.Fatalf("order %v: the argument is another one", order)
+	}
+}
+
+// P12.1: in every order a mask means variables, wherever they lie, and so do vals: by all masks, in room for just the argument and the answer, in one less, and in much.
+func TestQuantInOrders(t *testing.T) {
+	for i, order := range someOrders() {
+		d := draw(i + 60)
+		f := drawn(&d, len(order))
+		for m := range 1 << len(order) {
+			if len(order) > 4 && d.next(8) > 0 {
+				continue
+			}
+			mask, vals := uint8(m), uint8(d.next(256))
+			for _, o := range quants() {
+				want := o.means(f, mask, vals)
+				have, need := truth.Size([]api.Func{f}, order), truth.Size([]api.Func{f, want}, order)
+				for _, room := range []int{need - 1, need, 3000} {
+					if room < max(have, 1) {
+						continue
+					}
+					s := ordered(t, order, room)
+					s.Cached(i%2 == 0)
+					a := lay(t, s, f, 0)
+					for range 2 {
+						h, err := o.do(s, a, mask, vals)
+						answers(t, s, a, f, want, h, err)
+					}
+				}
+			}
+		}
+	}
+}
+
+// P12.1: in every order a variable's node by its own variable is a constant, by the others itself; a mask that has a variable from Vars on is refused.
+func TestQuantOfVariablesInOrders(t *testing.T) {
+	for _, order := range someOrders() {
+		s := ordered(t, order, len(order))
+		for v := range order {
+			a, _ := logic.Var(s, v)
+			for w := range api.MaxVars {
+				want, wantErr := []api.Handle{a, a, a}, api.OK
+				switch {
+				case w >= len(order):
+					want, wantErr = []api.Handle{0, 0, 0}, api.ErrVar
+				case w == v:
+					want = []api.Handle{1, 0, 1}
+				}
+				for i, o := range quants() {
+					if h, err := o.do(s, a, 1<<w, 1<<v); h != want[i] || err != wantErr {
+						t.Fatalf("order %v: call %d of variable %d by %d: %d, %v, want %d, %v", order, i, v, w, h, err, want[i], wantErr)
+					}
+				}
+			}
+		}
+	}
+}
+
+// P12.2: in every order Forall is not exists not.
+func TestForallInOrders(t *testing.T) {
+	for i, order := range someOrders() {
+		d := draw(i + 90)
+		s := ordered(t, order, api.MaxSlots)
+		a := lay(t, s, drawn(&d, len(order)), 0)
+		for range 8 {
+			mask := uint8(d.next(1 << len(order)))
+			forall, first := quant.Forall(s, a, mask)
+			not, second := logic.Not(s, a)
+			exists, third := quant.Exists(s, not, mask)
+			again, fourth := logic.Not(s, exists)
+			if forall != again || first+second+third+fourth != api.OK {
+				t.Fatalf("order %v: Forall(%d, %x): %d, not exists not %d (%v, %v, %v, %v)", order, a, mask, forall, again, first, second, third, fourth)
 			}
 		}
 	}
