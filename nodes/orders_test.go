@@ -7,6 +7,7 @@ import (
 	"testing"
 
 	"spinney/api"
+	"spinney/compose"
 	"spinney/logic"
 	"spinney/nodes"
 	"spinney/quant"
@@ -259,6 +260,110 @@ func TestForallInOrders(t *testing.T) {
 			again, fourth := logic.Not(s, exists)
 			if forall != again || first+second+third+fourth != api.OK {
 				t.Fatalf("order %v: Forall(%d, %x): %d, not exists not %d (%v, %v, %v, %v)", order, a, mask, forall, again, first, second, third, fourth)
+			}
+		}
+	}
+}
+
+// within is, at x, what f is where each variable v is as g[v] is at x, by each assignment.
+func within(f api.Func, g []api.Func) api.Func {
+	var is api.Func
+	for x := range 256 {
+		y := uint8(x)
+		for v := range g {
+			y &^= 1 << v
+			if truth.Eval(g[v], uint8(x)) {
+				y |= 1 << v
+			}
+		}
+		if truth.Eval(f, y) {
+			is[x/64] |= 1 << (x % 64)
+		}
+	}
+	return is
+}
+
+// P13.1: in every order v means a variable, wherever it lies: at all variables, in room for just the arguments and the answer, in one less, and in much; a number from Vars on is refused.
+func TestComposeInOrders(t *testing.T) {
+	for i, order := range someOrders() {
+		d := draw(i + 120)
+		f, g := drawn(&d, len(order)), drawn(&d, len(order))
+		for v := range order {
+			want := truth.Compose(f, v, g)
+			have, need := truth.Size([]api.Func{f, g}, order), truth.Size([]api.Func{f, g, want}, order)
+			for _, room := range []int{need - 1, need, 3000} {
+				if room < max(have, 1) {
+					continue
+				}
+				s := ordered(t, order, room)
+				s.Cached(i%2 == 0)
+				a, b := lay(t, s, f, 0), lay(t, s, g, 0)
+				for range 2 {
+					h, err := compose.Compose(s, a, v, b)
+					answers(t, s, a, f, want, h, err)
+					answers(t, s, b, g, want, h, err)
+				}
+				for _, none := range []int{-1, len(order), api.MaxVars} {
+					if h, err := compose.Compose(s, a, none, b); h != 0 || err != api.ErrVar {
+						t.Fatalf("order %v: Compose at %d: %d, %v", order, none, h, err)
+					}
+				}
+			}
+		}
+	}
+}
+
+// P13.2: in every order the places of a list are variables', not levels', in Subst and in Rename, and so is what Rename's list names.
+func TestSubstInOrders(t *testing.T) {
+	for i, order := range someOrders() {
+		for round := range 4 {
+			d := draw(10*i + round)
+			f := drawn(&d, len(order))
+			var g, named []api.Func
+			var to []int
+			for range order {
+				g, to = append(g, drawn(&d, len(order))), append(to, d.next(len(order)))
+				named = append(named, truth.Var(to[len(to)-1]))
+			}
+			subst, rename := within(f, g), within(f, named)
+			for _, room := range []int{truth.Size(append([]api.Func{f, subst, rename}, g...), order), 3000} {
+				s := ordered(t, order, max(room, 1))
+				s.Cached(round%2 == 0)
+				var l []api.Handle
+				for _, other := range g {
+					l = append(l, lay(t, s, other, 0))
+				}
+				a := lay(t, s, f, 0)
+				for range 2 {
+					h, err := compose.Subst(s, a, l)
+					answers(t, s, a, f, subst, h, err)
+					h, err = compose.Rename(s, a, to)
+					answers(t, s, a, f, rename, h, err)
+				}
+			}
+		}
+	}
+}
+
+// P13.3: in every order what is renamed to and fro is itself.
+func TestRenameInOrders(t *testing.T) {
+	for i, order := range someOrders() {
+		d := draw(i + 150)
+		s := ordered(t, order, api.MaxSlots)
+		a := lay(t, s, drawn(&d, len(order)), 0)
+		for range 8 {
+			to, fro := slices.Clone(order), make([]int, len(order))
+			for i := range to {
+				j := d.next(i + 1)
+				to[i], to[j] = to[j], to[i]
+			}
+			for v, w := range to {
+				fro[w] = v
+			}
+			there, first := compose.Rename(s, a, to)
+			again, second := compose.Rename(s, there, fro)
+			if again != a || first != api.OK || second != api.OK {
+				t.Fatalf("order %v: %d renamed to %v is %d, and back %d (%v, %v)", order, a, to, there, again, first, second)
 			}
 		}
 	}
