@@ -8,6 +8,7 @@ import (
 
 	"spinney/api"
 	"spinney/compose"
+	"spinney/count"
 	"spinney/logic"
 	"spinney/nodes"
 	"spinney/quant"
@@ -367,4 +368,122 @@ func TestRenameInOrders(t *testing.T) {
 			}
 		}
 	}
+}
+
+// counts fails unless layer 14 tells of h, the node of f, what truth tells of f.
+func counts(t *testing.T, s *nodes.Store, h api.Handle, f api.Func) {
+	t.Helper()
+	order, before := s.Order().All(), s.Len()
+	many := uint64(truth.Count(f) >> (api.MaxVars - s.Vars()))
+	if n, err := count.Count(s, h); n != many || err != api.OK {
+		t.Fatalf("order %v: Count: %d, %v, want %d", order, n, err, many)
+	}
+	if mask, err := count.Support(s, h); mask != truth.Support(f) || err != api.OK {
+		t.Fatalf("order %v: Support: %x, %v, want %x", order, mask, err, truth.Support(f))
+	}
+	least, some := truth.One(f)
+	if x, ok, err := count.One(s, h); x != least || ok != some || err != api.OK {
+		t.Fatalf("order %v: One: %d, %t, %v, want %d, %t", order, x, ok, err, least, some)
+	}
+	for x := range 256 {
+		if is, err := count.Eval(s, h, uint8(x)); is != truth.Eval(f, uint8(x)) || err != api.OK {
+			t.Fatalf("order %v: Eval at %d: %t, %v", order, x, is, err)
+		}
+	}
+	if s.Len() != before {
+		t.Fatalf("order %v: %d nodes, there were %d", order, s.Len(), before)
+	}
+}
+
+// P14.1: in every order the answers are by variables, wherever they lie: all functions of up to three variables, drawn ones of more, among them such as hang on some variables alone.
+func TestCountInOrders(t *testing.T) {
+	for i, order := range someOrders() {
+		s := ordered(t, order, api.MaxSlots)
+		s.Cached(i%2 == 0)
+		if len(order) <= 3 {
+			for n := range uint64(1) << (1 << len(order)) {
+				f := truth.Restrict(api.Func{n}, uint8(255<<len(order)), 0)
+				counts(t, s, lay(t, s, f, 0), f)
+			}
+			continue
+		}
+		d := draw(i + 180)
+		for range 20 {
+			f, mask := drawn(&d, len(order)), uint8(d.next(256))
+			few := truth.Restrict(f, mask, uint8(d.next(256)))
+			// Seldom true, so that the least assignment lies anywhere.
+			seldom := truth.And(truth.And(f, drawn(&d, len(order))), truth.And(drawn(&d, len(order)), drawn(&d, len(order))))
+			for _, g := range []api.Func{f, few, seldom, truth.Not(seldom)} {
+				counts(t, s, lay(t, s, g, 0), g)
+			}
+		}
+	}
+}
+
+// P14.1: in every order each assignment is the least one of the function that is true there alone, and of that which is true from there on.
+func TestOneInOrders(t *testing.T) {
+	for _, order := range someOrders() {
+		s := ordered(t, order, api.MaxSlots)
+		for x := range 1 << len(order) {
+			var alone, from api.Func
+			for y := x; y < 1<<len(order); y++ {
+				from[y/64] |= 1 << (y % 64)
+			}
+			alone[x/64] = 1 << (x % 64)
+			for _, f := range []api.Func{alone, from} {
+				h := lay(t, s, truth.Restrict(f, uint8(255<<len(order)), 0), 0)
+				if one, ok, err := count.One(s, h); int(one) != x || !ok || err != api.OK {
+					t.Fatalf("order %v: One: %d, %t, %v, want %d", order, one, ok, err, x)
+				}
+			}
+		}
+	}
+}
+
+// P14.2, P14.3: in every order Size is truth's Size under it, and a level has as many nodes as there are unlike functions that hang on its variable, and on none above.
+func TestSizeInOrders(t *testing.T) {
+	for i, order := range someOrders() {
+		for round := range 6 {
+			d := draw(20*i + round)
+			s := ordered(t, order, 3000)
+			// Others, which aren't to be counted.
+			lay(t, s, drawn(&d, len(order)), 0)
+			var l []api.Func
+			var handles []api.Handle
+			for range round {
+				f := truth.Restrict(drawn(&d, len(order)), uint8(d.next(256)&d.next(256)), uint8(d.next(256)))
+				l, handles = append(l, f), append(handles, lay(t, s, f, 0))
+			}
+			size, first := count.Size(s, handles)
+			if size != truth.Size(l, order) || first != api.OK {
+				t.Fatalf("order %v: Size: %d, %v, truth's %d", order, size, first, truth.Size(l, order))
+			}
+			levels, second := count.Levels(s, handles)
+			if len(levels) != len(order) || second != api.OK {
+				t.Fatalf("order %v: Levels: %d, %v", order, levels, second)
+			}
+			for level, n := range levels {
+				if want := onLevel(l, order, level); n != want {
+					t.Fatalf("order %v: Levels: %d, want %d at %d", order, levels, want, level)
+				}
+			}
+		}
+	}
+}
+
+// onLevel is how many unlike functions come of those of l where the variables above that level are fixed that hang on the level's own.
+func onLevel(l []api.Func, order []int, level int) int {
+	met := map[api.Func]bool{}
+	for _, f := range l {
+		for vals := range 1 << level {
+			g := f
+			for i, v := range order[:level] {
+				g = truth.Fix(g, v, vals>>i&1 == 1)
+			}
+			if truth.Support(g)>>order[level]&1 == 1 {
+				met[g] = true
+			}
+		}
+	}
+	return len(met)
 }
