@@ -7,6 +7,7 @@ import (
 	"testing"
 
 	"spinney/api"
+	"spinney/build"
 	"spinney/compose"
 	"spinney/count"
 	"spinney/logic"
@@ -486,4 +487,105 @@ func onLevel(l []api.Func, order []int, level int) int {
 		}
 	}
 	return len(met)
+}
+
+// P15.1, P15.3: in every order From's node is of the table, and Func tells the table again; the nodes that are made are the answer's in that order: beside another function's, in room for just both, in one less, and in much. A variable from Vars on is refused.
+func TestFromInOrders(t *testing.T) {
+	for i, order := range someOrders() {
+		d := draw(i + 210)
+		for range 6 {
+			f := drawn(&d, len(order))
+			g := truth.Restrict(drawn(&d, len(order)), uint8(d.next(256)&d.next(256)), uint8(d.next(256)))
+			have, need := truth.Size([]api.Func{f}, order), truth.Size([]api.Func{f, g}, order)
+			for _, room := range []int{need - 1, need, 3000} {
+				if room < max(have, 1) {
+					continue
+				}
+				s := ordered(t, order, room)
+				s.Cached(i%2 == 0)
+				a := lay(t, s, f, 0)
+				for range 2 {
+					h, err := build.From(s, g)
+					made(t, s, []api.Func{f}, g, h, err)
+					if back, other := build.Func(s, h); err == api.OK && (back != g || other != api.OK) {
+						t.Fatalf("order %v: Func: %x, %v, want %x", order, back, other, g)
+					}
+				}
+				if back, err := build.Func(s, a); back != f || err != api.OK {
+					t.Fatalf("order %v: Func: %x, %v, want %x", order, back, err, f)
+				}
+				for v := len(order); v < api.MaxVars; v++ {
+					if h, err := build.From(s, truth.Xor(g, truth.Var(v))); h != 0 || err != api.ErrVar {
+						t.Fatalf("order %v: From of what hangs on %d: %d, %v", order, v, h, err)
+					}
+				}
+			}
+		}
+	}
+}
+
+// P15.1: in every order mask and vals mean variables, wherever they lie: by all masks, in room for just the cube, in one less, and in much.
+func TestCubeInOrders(t *testing.T) {
+	for i, order := range someOrders() {
+		d := draw(i + 240)
+		for m := range 256 {
+			mask, vals := uint8(m), uint8(d.next(256))
+			var want api.Func
+			for x := range 256 {
+				if uint8(x)&mask == vals&mask {
+					want[x/64] |= 1 << (x % 64)
+				}
+			}
+			need := truth.Size([]api.Func{want}, order)
+			for _, room := range []int{need - 1, need, 3000} {
+				if room < 1 {
+					continue
+				}
+				s := ordered(t, order, room)
+				h, err := build.Cube(s, mask, vals)
+				if m>>len(order) == 0 {
+					made(t, s, nil, want, h, err)
+				} else if h != 0 || err != api.ErrVar || s.Len() != 0 {
+					t.Fatalf("order %v: Cube(%x, %x): %d, %v", order, mask, vals, h, err)
+				}
+			}
+		}
+	}
+}
+
+// pathsOf are the paths from h to 1, those of a Low ahead of its High's; path is the way to h.
+func pathsOf(s *nodes.Store, h api.Handle, path [2]uint8) [][2]uint8 {
+	if h < 2 {
+		return slices.Repeat([][2]uint8{path}, int(h))
+	}
+	bit := uint8(1) << s.Order().Var(s.Level(h))
+	low, high := [2]uint8{path[0] | bit, path[1]}, [2]uint8{path[0] | bit, path[1] | bit}
+	return append(pathsOf(s, s.Low(h), low), pathsOf(s, s.High(h), high)...)
+}
+
+// P15.2, P15.3: in every order the paths are told by variables, and come by levels, a Low's ahead of its High's; the or of their cubes is the node.
+func TestCubesInOrders(t *testing.T) {
+	for i, order := range someOrders() {
+		d := draw(i + 270)
+		s := ordered(t, order, api.MaxSlots)
+		for range 4 {
+			h := lay(t, s, truth.Restrict(drawn(&d, len(order)), uint8(d.next(256)&d.next(256)), uint8(d.next(256))), 0)
+			l, err := build.Cubes(s, h)
+			if want := pathsOf(s, h, [2]uint8{}); !slices.Equal(l, want) || err != api.OK {
+				t.Fatalf("order %v: Cubes: %x, %v, want %x", order, l, err, want)
+			}
+			or := api.False
+			for _, c := range l {
+				one, first := build.Cube(s, c[0], c[1])
+				both, second := logic.Or(s, or, one)
+				if first+second != api.OK {
+					t.Fatalf("order %v: Cube(%x, %x): %v, Or: %v", order, c[0], c[1], first, second)
+				}
+				or = both
+			}
+			if or != h {
+				t.Fatalf("order %v: %d or-ed of its paths is %d", order, h, or)
+			}
+		}
+	}
 }
