@@ -13,6 +13,7 @@ import (
 	"spinney/logic"
 	"spinney/nodes"
 	"spinney/quant"
+	"spinney/rel"
 	"spinney/truth"
 )
 
@@ -585,6 +586,143 @@ func TestCubesInOrders(t *testing.T) {
 			}
 			if or != h {
 				t.Fatalf("order %v: %d or-ed of its paths is %d", order, h, or)
+			}
+		}
+	}
+}
+
+// P16.1: in every order a node fits by its variables, wherever they lie.
+func TestFitsInOrders(t *testing.T) {
+	for i, order := range someOrders() {
+		d := draw(i + 300)
+		s := ordered(t, order, api.MaxSlots)
+		l := []api.Func{truth.Const(false), truth.Const(true)}
+		for v := range order {
+			l = append(l, truth.Var(v))
+		}
+		for range 4 {
+			f := drawn(&d, len(order))
+			l = append(l, f, truth.Restrict(f, 0xaa, uint8(d.next(256))), truth.Restrict(f, 0x55, uint8(d.next(256))))
+		}
+		for _, f := range l {
+			if is := rel.Fits(s, lay(t, s, f, 0)); is != (truth.Support(f)&0xaa == 0) {
+				t.Fatalf("order %v: Fits of what hangs on %x: %t", order, truth.Support(f), is)
+			}
+		}
+	}
+}
+
+// relation draws some states, and a relation in which each state leads to few others, of so many variables.
+func relation(d *draw, vars int) (f, g api.Func) {
+	f = truth.Restrict(truth.And(drawn(d, vars), drawn(d, vars)), 0xaa, uint8(d.next(256)))
+	g = drawn(d, vars)
+	for range vars/2 - 1 {
+		g = truth.And(g, drawn(d, vars))
+	}
+	return f, g
+}
+
+// P16.1: in every order current and next are the variables' names, wherever they lie: in room for just the arguments and the answer, in some more, and in much; an odd number of variables is refused.
+func TestStepsInOrders(t *testing.T) {
+	for i, order := range someOrders() {
+		d := draw(i + 330)
+		for range 6 {
+			f, g := relation(&d, len(order))
+			for _, o := range []struct {
+				do    func(s *nodes.Store, states, rel api.Handle) (api.Handle, api.Errno)
+				means func(states, rel api.Func) api.Func
+			}{{rel.Next, truth.Next}, {rel.Prev, truth.Prev}} {
+				want := o.means(f, g)
+				need := truth.Size([]api.Func{f, g, want}, order)
+				for _, room := range []int{need, need + 5, need + 20, 3000} {
+					s := ordered(t, order, max(room, 1))
+					s.Cached(i%2 == 0)
+					a, b := lay(t, s, f, 0), lay(t, s, g, 0)
+					for range 2 {
+						h, err := o.do(s, a, b)
+						if len(order)%2 == 1 {
+							if h != 0 || err != api.ErrRel {
+								t.Fatalf("order %v: %d, %v", order, h, err)
+							}
+							continue
+						}
+						answers(t, s, a, f, want, h, err)
+						answers(t, s, b, g, want, h, err)
+					}
+				}
+			}
+		}
+	}
+}
+
+// P16.2, P16.4: in every order what is reached is the same, as many times new, and holds all that follows from it.
+func TestReachInOrders(t *testing.T) {
+	longest := 0
+	for i, order := range someOrders() {
+		if len(order)%2 == 1 {
+			continue
+		}
+		d := draw(i + 360)
+		for range 6 {
+			f, g := relation(&d, len(order))
+			want, times := f, 0
+			for more := truth.Or(want, truth.Next(want, g)); more != want; more = truth.Or(want, truth.Next(want, g)) {
+				want, times = more, times+1
+			}
+			longest = max(longest, times)
+			need := truth.Size([]api.Func{f, g, want}, order)
+			for _, room := range []int{need, need + 5, need + 20, 3000} {
+				s := ordered(t, order, max(room, 1))
+				s.Cached(i%2 == 0)
+				a, b := lay(t, s, f, 0), lay(t, s, g, 0)
+				h, n, err := rel.Reach(s, a, b)
+				answers(t, s, a, f, want, h, err)
+				answers(t, s, b, g, want, h, err)
+				if err == api.OK && n != times || err != api.OK && n != 0 {
+					t.Fatalf("order %v: Reach: something new %d times, %v, want %d", order, n, err, times)
+				}
+			}
+		}
+	}
+	if longest < 3 {
+		t.Errorf("something was new %d times at most", longest)
+	}
+}
+
+// P16.3: in every order the bits of states are variables', wherever they lie: each two states, in much room and in little; what is no state, and an odd number of variables, is refused.
+func TestPairInOrders(t *testing.T) {
+	for i, order := range someOrders() {
+		d := draw(i + 390)
+		for n := range 256 {
+			from, to := n>>4, n&15
+			if len(order) > 4 && d.next(8) > 0 {
+				continue
+			}
+			var want api.Func
+			for x := range 256 {
+				is := true
+				for v := range order {
+					is = is && x>>v&1 == [2]int{from, to}[v%2]>>(v/2)&1
+				}
+				if is {
+					want[x/64] |= 1 << (x % 64)
+				}
+			}
+			for _, room := range []int{1, len(order), 2 * len(order), 3000} {
+				s := ordered(t, order, room)
+				h, err := rel.Pair(s, uint8(from), uint8(to))
+				switch {
+				case len(order)%2 == 1:
+					if h != 0 || err != api.ErrRel || s.Len() != 0 {
+						t.Fatalf("order %v: Pair(%d, %d): %d, %v", order, from, to, h, err)
+					}
+				case max(from, to) >= 1<<(len(order)/2):
+					if h != 0 || err != api.ErrVar || s.Len() != 0 {
+						t.Fatalf("order %v: Pair(%d, %d): %d, %v", order, from, to, h, err)
+					}
+				default:
+					answers(t, s, 0, truth.Const(false), want, h, err)
+				}
 			}
 		}
 	}
