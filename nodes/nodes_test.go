@@ -273,6 +273,9 @@ func TestZero(t *testing.T) {
 	}
 	s.Cached(false)
 	s.Cached(true)
+	if n := s.Retain([]api.Handle{0, 1, 2, math.MaxUint32}); n != 0 {
+		t.Errorf("%d gone of none", n)
+	}
 	expect(t, &s, p)
 }
 
@@ -641,6 +644,70 @@ func TestCachedAlone(t *testing.T) {
 			mk(t, s, p, k.level, k.low, k.high)
 		}
 		expect(t, s, p)
+	}
+}
+
+// retain has s hold those nodes alone that are of l, or are reached from these, and has p hold them; l may have others beside them. It fails unless so many are told to be gone.
+func retain(t *testing.T, s *nodes.Store, p *plain, l []api.Handle) {
+	t.Helper()
+	was := len(p.made)
+	stay := empty(p.vars, p.room)
+	var down func(h api.Handle)
+	down = func(h api.Handle) {
+		if k, there := p.made[h]; there {
+			stay.has[k], stay.made[h], stay.funcs[h] = h, k, p.funcs[h]
+			down(k.low)
+			down(k.high)
+		}
+	}
+	for _, h := range l {
+		down(h)
+	}
+	*p = *stay
+	l = append(slices.Clone(l), p.all()...)
+	given := slices.Clone(l)
+	if n := s.Retain(l); n != was-len(p.made) {
+		t.Fatalf("Retain(%d): %d gone, want %d", l, n, was-len(p.made))
+	}
+	if !slices.Equal(l, given) {
+		t.Fatalf("the list %d is %d behind Retain", given, l)
+	}
+	expect(t, s, p)
+	if handles, names := s.Kept(); handles > p.room || names != len(p.made) {
+		t.Fatalf("%d handles and %d names are held of %d nodes, in room for %d", handles, names, len(p.made), p.room)
+	}
+}
+
+// P10.2: behind Retain, which layer 17 calls, a store tells of what stays what it told, by the same handles, and of what went that it is none; it has room for what went, and gives it handles that nobody has. What isn't an inner node counts for nothing.
+func TestRetain(t *testing.T) {
+	for seed, c := range []struct{ vars, room int }{{1, 1}, {1, 2}, {2, 5}, {2, 14}, {3, 100}, {5, 40}, {8, 700}} {
+		for way := range 3 {
+			s, p := store(t, c.vars, c.room)
+			d := draw(10*seed + way)
+			s.Cached(way == 0)
+			for round := range 20 {
+				steps(t, s, p, draw(100*seed+round), c.room, func(i int) {
+					if way == 2 {
+						s.Cached(i/7%2 == 0)
+					}
+				})
+				once(t, s)
+				l := slices.Clone(great)
+				for _, h := range append([]api.Handle{0, 1, 1, 0}, p.all()...) {
+					if d.next(1+round) == 0 {
+						l = append(l, h, 1<<20, h)
+					}
+				}
+				retain(t, s, p, l)
+				for k, h := range p.has {
+					if got := mk(t, s, p, k.level, k.low, k.high); got != h {
+						t.Fatalf("Mk%v of what stays: %d, but it was %d", k, got, h)
+					}
+				}
+				once(t, s)
+			}
+			retain(t, s, p, nil)
+		}
 	}
 }
 

@@ -11,8 +11,10 @@ import (
 	"spinney/compose"
 	"spinney/count"
 	"spinney/logic"
+	"spinney/mark"
 	"spinney/nodes"
 	"spinney/quant"
+	"spinney/refs"
 	"spinney/rel"
 	"spinney/truth"
 )
@@ -723,6 +725,127 @@ func TestPairInOrders(t *testing.T) {
 				default:
 					answers(t, s, 0, truth.Const(false), want, h, err)
 				}
+			}
+		}
+	}
+}
+
+// gathered draws functions, lays them beside others, and tells some of them as roots.
+func gathered(t *testing.T, s *nodes.Store, d *draw, many int) ([]api.Func, []api.Handle) {
+	t.Helper()
+	var l []api.Func
+	var roots []api.Handle
+	for range many {
+		lay(t, s, drawn(d, s.Vars()), 0)
+		f := truth.Restrict(drawn(d, s.Vars()), uint8(d.next(256)&d.next(256)), uint8(d.next(256)))
+		l, roots = append(l, f), append(roots, lay(t, s, f, 0))
+	}
+	return l, roots
+}
+
+// P17.1: in every order as many nodes are reached as truth's Size tells under it, rising, and of each node its own and those below it.
+func TestMarkInOrders(t *testing.T) {
+	for i, order := range someOrders() {
+		d := draw(i + 420)
+		s := ordered(t, order, 3000)
+		l, roots := gathered(t, s, &d, 1+i%3)
+		all, err := mark.Reach(s, roots)
+		if len(all) != truth.Size(l, order) || !slices.IsSorted(all) || err != api.OK {
+			t.Fatalf("order %v: Reach: %d, %v, truth's %d", order, all, err, truth.Size(l, order))
+		}
+		for _, h := range all {
+			below, err := mark.Reach(s, []api.Handle{h})
+			if len(below) != truth.Size([]api.Func{function(s, h)}, order) || !slices.Contains(below, h) || err != api.OK {
+				t.Fatalf("order %v: Reach of %d: %d, %v", order, h, below, err)
+			}
+		}
+		if none, err := mark.Reach(s, append(all, 1<<20)); len(none) != 0 || err != api.ErrNode {
+			t.Fatalf("order %v: Reach: %d, %v", order, none, err)
+		}
+	}
+}
+
+// P17.2, P17.3: in every order what is reached stays, in that order, with its handles, levels, lows, highs and functions; the others go, and are made again in a store that has no more room than they had; by Collect and by Sweep, with the cache and without.
+func TestCollectInOrders(t *testing.T) {
+	for i, order := range someOrders() {
+		for way := range 4 {
+			d, again := draw(i+450), draw(i+450)
+			first := ordered(t, order, 3000)
+			gathered(t, first, &again, 1+i%3)
+			s := ordered(t, order, max(first.Len(), 1))
+			s.Cached(way/2 == 0)
+			l, roots := gathered(t, s, &d, 1+i%3)
+			was, funcs := map[api.Handle]triple{}, map[api.Handle]api.Func{}
+			for _, h := range s.All() {
+				was[h], funcs[h] = triple{s.Level(h), s.Low(h), s.High(h)}, function(s, h)
+			}
+			n, err := collected(s, roots, way%2 == 0)
+			size := truth.Size(l, order)
+			if n != len(was)-size || s.Len() != size || err != api.OK || !slices.Equal(s.Order().All(), order) {
+				t.Fatalf("order %v: %d gone of %d, %v, %d stay, want %d, in order %v", order, n, len(was), err, s.Len(), size, s.Order().All())
+			}
+			for h, k := range was {
+				if !s.Is(h) {
+					k = triple{-1, 0, 0}
+				}
+				if got := (triple{s.Level(h), s.Low(h), s.High(h)}); got != k {
+					t.Fatalf("order %v: node %d is %v, want %v", order, h, got, k)
+				}
+			}
+			for j, h := range roots {
+				if function(s, h) != l[j] || lay(t, s, l[j], 0) != h {
+					t.Fatalf("order %v: %d is %x, want %x", order, h, function(s, h), l[j])
+				}
+			}
+			for _, f := range funcs {
+				if h := lay(t, s, f, 0); function(s, h) != f {
+					t.Fatalf("order %v: %d is %x, want %x", order, h, function(s, h), f)
+				}
+			}
+			if once(t, s); s.Len() != len(was) {
+				t.Fatalf("order %v: %d nodes, want %d", order, s.Len(), len(was))
+			}
+		}
+	}
+}
+
+// collected is a Collect of the roots, or a Sweep by what holds them, protected and on stacks.
+func collected(s *nodes.Store, roots []api.Handle, swept bool) (int, api.Errno) {
+	if !swept {
+		return mark.Collect(s, roots)
+	}
+	r := refs.New(2)
+	for i, h := range roots {
+		if i%2 == 0 {
+			r.Protect(h)
+		} else {
+			r.Push(i/2%2, h)
+		}
+	}
+	return mark.Sweep(s, r)
+}
+
+// P17.3: in every order operations go on behind a collection, of what stays, and mean what they meant.
+func TestOperationsBehindInOrders(t *testing.T) {
+	for i, order := range someOrders() {
+		d := draw(i + 480)
+		s := ordered(t, order, api.MaxSlots)
+		s.Cached(i%2 == 0)
+		f, g := drawn(&d, len(order)), drawn(&d, len(order))
+		a, b := lay(t, s, f, 0), lay(t, s, g, 0)
+		for range 3 {
+			mask, v := uint8(d.next(1<<len(order))), d.next(len(order))
+			h, err := logic.Xor(s, a, b)
+			answers(t, s, a, f, truth.Xor(f, g), h, err)
+			h, err = quant.Exists(s, a, mask)
+			answers(t, s, a, f, truth.Exists(f, mask), h, err)
+			h, err = compose.Compose(s, a, v, b)
+			answers(t, s, a, f, truth.Compose(f, v, g), h, err)
+			h, err = build.From(s, truth.And(f, truth.Var(v)))
+			answers(t, s, a, f, truth.And(f, truth.Var(v)), h, err)
+			counts(t, s, a, f)
+			if _, err := mark.Collect(s, []api.Handle{a, b}); err != api.OK || s.Len() != truth.Size([]api.Func{f, g}, order) {
+				t.Fatalf("order %v: Collect: %v, %d nodes", order, err, s.Len())
 			}
 		}
 	}
