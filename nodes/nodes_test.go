@@ -29,16 +29,18 @@ type triple struct {
 // plain is what a store holds, as it was told: each inner node by its handle and the other way round, and the table of each node's function.
 type plain struct {
 	vars, room int
+	order      []int
 	has        map[triple]api.Handle
 	made       map[api.Handle]triple
 	funcs      map[api.Handle]api.Func
 }
 
-// empty is what a store holds at first.
+// empty is what a store holds at first, when each variable lies at the level of its own number.
 func empty(vars, room int) *plain {
 	return &plain{
 		vars:  vars,
 		room:  room,
+		order: []int{0, 1, 2, 3, 4, 5, 6, 7}[:vars],
 		has:   map[triple]api.Handle{},
 		made:  map[api.Handle]triple{},
 		funcs: map[api.Handle]api.Func{0: {}, 1: {^uint64(0), ^uint64(0), ^uint64(0), ^uint64(0)}},
@@ -134,8 +136,7 @@ func mk(t *testing.T, s *nodes.Store, p *plain, level int, low, high api.Handle)
 		t.Fatalf("Mk%v: %d of a new node", k, h)
 	default:
 		p.has[k], p.made[h] = h, k
-		// At first each variable lies at the level of its own number, and nothing here moves it.
-		p.funcs[h] = joined(level, p.funcs[low], p.funcs[high])
+		p.funcs[h] = joined(p.order[level], p.funcs[low], p.funcs[high])
 	}
 	if s.Len() != len(p.made) {
 		t.Fatalf("Len %d behind Mk%v, want %d", s.Len(), k, len(p.made))
@@ -174,9 +175,9 @@ func expect(t *testing.T, s *nodes.Store, p *plain) {
 	if o := s.Order(); o.Len() != p.vars {
 		t.Fatalf("an order of %d variables, want %d", o.Len(), p.vars)
 	}
-	for v := range p.vars {
-		if s.Order().Var(v) != v || s.Order().Level(v) != v {
-			t.Fatalf("order %v", s.Order().All())
+	for level, v := range p.order {
+		if s.Order().Var(level) != v || s.Order().Level(v) != level {
+			t.Fatalf("order %v, want %v", s.Order().All(), p.order)
 		}
 	}
 }
@@ -652,6 +653,7 @@ func retain(t *testing.T, s *nodes.Store, p *plain, l []api.Handle) {
 	t.Helper()
 	was := len(p.made)
 	stay := empty(p.vars, p.room)
+	stay.order = p.order
 	var down func(h api.Handle)
 	down = func(h api.Handle) {
 		if k, there := p.made[h]; there {
@@ -673,7 +675,13 @@ func retain(t *testing.T, s *nodes.Store, p *plain, l []api.Handle) {
 		t.Fatalf("the list %d is %d behind Retain", given, l)
 	}
 	expect(t, s, p)
-	if handles, names := s.Kept(); handles > p.room || names != len(p.made) {
+}
+
+// kept fails unless s, behind calls that looked for all its nodes, holds no more handles than it has room for, and a name of each node.
+func kept(t *testing.T, s *nodes.Store, p *plain) {
+	t.Helper()
+	handles, names := s.Kept()
+	if handles > p.room || names != len(p.made) && len(p.made) > 0 {
 		t.Fatalf("%d handles and %d names are held of %d nodes, in room for %d", handles, names, len(p.made), p.room)
 	}
 }
@@ -704,10 +712,54 @@ func TestRetain(t *testing.T) {
 						t.Fatalf("Mk%v of what stays: %d, but it was %d", k, got, h)
 					}
 				}
+				kept(t, s, p)
 				once(t, s)
 			}
 			retain(t, s, p, nil)
 		}
+	}
+}
+
+// P10.1, P10.4: behind Relay, which layer 18 calls, a store has the order that it was given, keeping no part of that, and each handle is the node that it was given: Mk tells these handles, and gives others to new nodes, with the cache on and off, whether Retain comes in between or not.
+func TestRelay(t *testing.T) {
+	for way := range 4 {
+		s, p := store(t, 3, 7)
+		s.Cached(way%2 == 0)
+		deep := mk(t, s, p, 2, 0, 1)
+		lower := mk(t, s, p, 1, 0, 1)
+		upper := mk(t, s, p, 0, 0, 1)
+		both := mk(t, s, p, 0, lower, deep)
+		made := both + 3 // the two below it are no nodes
+		o := s.Order()
+		o.Swap(0)
+		s.Relay(o, map[api.Handle]nodes.Node{
+			lower: {Level: 0, Low: 0, High: 1},
+			upper: {Level: 1, Low: 0, High: 1},
+			made:  {Level: 1, Low: 1, High: deep},
+			both:  {Level: 0, Low: made, High: upper},
+		})
+		o.Swap(1)
+		q := empty(3, 7)
+		q.order = []int{1, 0, 2}
+		for h, k := range map[api.Handle]triple{deep: {2, 0, 1}, lower: {0, 0, 1}, upper: {1, 0, 1}, made: {1, 1, deep}, both: {0, made, upper}} {
+			q.has[k], q.made[h], q.funcs[h] = h, k, function(s, h)
+		}
+		expect(t, s, q)
+		if way/2 == 0 {
+			retain(t, s, q, q.all())
+		}
+		for range 2 {
+			for k := range q.has {
+				mk(t, s, q, k.level, k.low, k.high)
+			}
+			mk(t, s, q, 0, lower, deep)
+			mk(t, s, q, 0, 1, made)
+			kept(t, s, q)
+		}
+		mk(t, s, q, 2, 1, 0)
+		mk(t, s, q, 0, 1, 0)
+		expect(t, s, q)
+		once(t, s)
 	}
 }
 

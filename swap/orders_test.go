@@ -1,6 +1,6 @@
-package nodes_test
+package swap_test
 
-// The tests of layers above in other orders than the first. They stand here because only tests of this package can give a store another order.
+// The tests of the layers between nodes and this one in other orders than the first. They stand here because it is this layer that gives a store another order.
 
 import (
 	"slices"
@@ -16,6 +16,7 @@ import (
 	"spinney/quant"
 	"spinney/refs"
 	"spinney/rel"
+	"spinney/swap"
 	"spinney/truth"
 )
 
@@ -59,9 +60,9 @@ func someOrders() [][]int {
 // ordered makes a store of that order.
 func ordered(t *testing.T, order []int, room int) *nodes.Store {
 	t.Helper()
-	s, _ := store(t, len(order), room)
-	if err := s.SetOrder(order); err != api.OK || !slices.Equal(s.Order().All(), order) {
-		t.Fatalf("SetOrder(%v): %v", order, err)
+	s := store(t, len(order), room)
+	if _, err := swap.To(s, order); err != api.OK || !slices.Equal(s.Order().All(), order) {
+		t.Fatalf("To(%v): %v, the order is %v", order, err, s.Order().All())
 	}
 	return s
 }
